@@ -153,7 +153,6 @@ func TestEscapes(t *testing.T) {
 			short = escape
 		}
 		wantText(t, `"x`+escape+`y"`, `"x`+short+`y"`)
-		wantText(t, `"`+strings.ToUpper(escape[2:])+`"`, `"`+strings.ToUpper(escape[2:])+`"`)
 		wantText(t, `"\u`+strings.ToUpper(escape[2:])+`"`, `"`+short+`"`)
 		wantText(t, `{"`+escape+`":0}`, `{"`+short+`":0}`)
 		wantPlace(t, `"x`+string(rune(c))+`y"`, 2)
