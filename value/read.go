@@ -153,7 +153,7 @@ func (r *reader) number() (Value, bool) {
 func isDigit(c byte) bool { return '0' <= c && c <= '9' }
 
 func (r *reader) readString() (string, bool) {
-	s, at, ok := readString(r.text, r.at)
+	s, at, ok := ReadString(r.text, r.at)
 	r.at = at
 	return s, ok
 }

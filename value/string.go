@@ -12,10 +12,10 @@ const (
 	beyondOneHalf = 0x10000
 )
 
-// readString reads the string that begins with the quote at text[at]: its
+// ReadString reads the string that begins with the quote at text[at]: its
 // characters and the place behind it, or the place where it goes wrong and
 // false.
-func readString(text string, at int) (string, int, bool) {
+func ReadString(text string, at int) (string, int, bool) {
 	var chars []byte
 	at++
 characters:
