@@ -2,6 +2,8 @@
 // their texts.
 package value
 
+import "slices"
+
 // Value is a Null, Bool, Number, String, Array or Object. Streams share
 // values, so none is changed once it is made.
 type Value interface{ isValue() }
@@ -22,6 +24,10 @@ type Member struct {
 
 // Object has its members by their keys, rising, and each key once.
 type Object []Member
+
+// MakeObject tells the object of members in any order; of two with one key the
+// later one counts.
+func MakeObject(members []Member) Object { return inOrder(slices.Clone(members)) }
 
 func (Null) isValue()   {}
 func (Bool) isValue()   {}
