@@ -30,30 +30,25 @@ var (
 	errPath = errors.New("path")
 )
 
-func fail(v value.Value) {
-	panic(&ending{kind: failed, value: v})
-}
-
-// failWith fails with the error that has the text of err for its value.
-func failWith(err error) {
-	fail(value.String(err.Error()))
+// failure is the error that has the text of err for its value.
+func failure(err error) *ending {
+	return &ending{kind: failed, value: value.String(err.Error())}
 }
 
 // sure tells the value that there is unless something went wrong.
 func sure(v value.Value, err error) value.Value {
 	if err != nil {
-		failWith(err)
+		panic(failure(err))
 	}
 	return v
 }
 
-// must tells v as a value of the kind K, and fails where it is of another.
+// must tells v as a value of the kind K; it is an error where it is of another.
 func must[K value.Value](v value.Value) K {
-	k, ok := v.(K)
-	if !ok {
-		failWith(value.ErrType)
+	if k, ok := v.(K); ok {
+		return k
 	}
-	return k
+	panic(failure(value.ErrType))
 }
 
 // pull asks a stream for its next value, and catches what ends it otherwise

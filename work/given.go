@@ -184,7 +184,7 @@ func textOf(v value.Value) value.Value {
 func read(s value.String) value.Value {
 	v, _, ok := value.Read(string(s))
 	if !ok {
-		failWith(errText)
+		panic(failure(errText))
 	}
 	return v
 }
@@ -208,7 +208,7 @@ func implode(numbers value.Array) value.String {
 	for _, v := range numbers {
 		n := must[value.Number](v)
 		if n < 0 || n > utf8.MaxRune || !utf8.ValidRune(rune(n)) {
-			failWith(value.ErrType)
+			panic(failure(value.ErrType))
 		}
 		chars = utf8.AppendRune(chars, rune(n))
 	}

@@ -90,7 +90,7 @@ func (p place) last(f syntax.Filter, in spot) spot {
 		last, some = x, true
 	}
 	if in.path != nil && !some {
-		failWith(errPath)
+		panic(failure(errPath))
 	}
 	return last
 }
@@ -137,7 +137,7 @@ func (p place) failing(args []syntax.Filter, in spot) stream {
 	}
 	return func() (spot, bool) {
 		if x, ok := values(); ok {
-			fail(x.value)
+			panic(&ending{kind: failed, value: x.value})
 		}
 		return none()
 	}

@@ -30,7 +30,7 @@ func (s spot) pathless(of stream) stream {
 	}
 	return func() (spot, bool) {
 		if _, ok := of(); ok {
-			failWith(errPath)
+			panic(failure(errPath))
 		}
 		return none()
 	}
@@ -96,10 +96,7 @@ func (s spot) mustParts() stream {
 	case value.Array, value.Object:
 		return s.parts()
 	default:
-		return func() (spot, bool) {
-			failWith(value.ErrType)
-			return none()
-		}
+		return func() (spot, bool) { panic(failure(value.ErrType)) }
 	}
 }
 
