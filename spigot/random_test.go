@@ -207,6 +207,9 @@ func againstModel(t *testing.T, f, input string, depth int, want list) {
 				t.Errorf("Run(%s, %s, %d, %d): %s, want %s", text, input, n+1, depth, got, all)
 			}
 		}
+		if got := pulled(t, f, input, n+1, depth); got != all {
+			t.Errorf("pulled of %s, %s, %d, %d: %s, want %s", f, input, n+1, depth, got, all)
+		}
 		if want.end.kind != "deep" {
 			if got := told(Run(f, input, n+1, depth+1)); got != all {
 				t.Errorf("Run(%s, %s, %d, %d): %s, want %s", f, input, n+1, depth+1, got, all)

@@ -41,11 +41,15 @@ func expectAll(t *testing.T, samples []sample) {
 	}
 }
 
-// expect asks for what a filter gives, and for the same from its plain form.
+// expect asks for what a filter gives, for the same from its plain form, and
+// for the same value by value from a machine.
 func expect(t *testing.T, f, input string, n, depth int, want string) {
 	t.Helper()
 	if got := told(Run(f, input, n, depth)); got != want {
 		t.Errorf("Run(%.200q, %.80q, %d, %d): %s, want %s", f, input, n, depth, got, want)
+	}
+	if got := pulled(t, f, input, n, depth); got != want {
+		t.Errorf("pulled of %.200q, %.80q, %d, %d: %s, want %s", f, input, n, depth, got, want)
 	}
 	plain, e, _ := filter.Pretty(f)
 	if e != api.OK || len(plain) > api.MaxText {
@@ -302,20 +306,5 @@ func TestTheSameAgain(t *testing.T) {
 	}
 	if again := Run(f, `["a",{"b":2}]`, 3, 0); !reflect.DeepEqual(again, want) {
 		t.Errorf("%+v, want %+v", again, want)
-	}
-}
-
-// TestAtOnce: calls know nothing of one another.
-func TestAtOnce(t *testing.T) {
-	answers := make(chan string)
-	for range 20 {
-		go func() {
-			answers <- told(Run("[.[] | try (if . > 1 then error else . end) catch -.], (label $l | .[], break $l)", "[1,2,3]", 9, 9))
-		}()
-	}
-	for range 20 {
-		if s := <-answers; s != "[1,-2,-3] 1 2 3." {
-			t.Error(s)
-		}
 	}
 }

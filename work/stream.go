@@ -8,20 +8,37 @@ import (
 )
 
 // Stream is what a filter gives for an input, worked out as far as it was
-// asked for.
-type Stream struct{ rest stream }
-
-// Start begins a stream in which definitions may stand in each other as deep
-// as depth, within its bounds. Nothing is worked out yet.
-func Start(f syntax.Filter, input value.Value, depth int) *Stream {
-	p := place{given(), max(0, min(depth, api.MaxDepth))}
-	return &Stream{p.open(f, spot{value: input})}
+// asked for. Behind its end nothing is left of it but that.
+type Stream struct {
+	rest stream
+	end  api.Answer
 }
 
-// Next tells the next value, or how the stream ends; behind its end it is not
-// asked again. No break comes as far as this: its label stands around it.
+// Start begins a stream in which definitions may stand in each other as deep
+// as depth, within its bounds. It is opened when it is asked for the first
+// time: one that nobody asks takes no room, however deep its filter is.
+func Start(f syntax.Filter, input value.Value, depth int) *Stream {
+	return &Stream{rest: behind(none, func() stream {
+		p := place{given(), max(0, min(depth, api.MaxDepth))}
+		return p.open(f, spot{value: input})
+	})}
+}
+
+// Next tells the next value, or how the stream ends: that again and again.
 func (s *Stream) Next() api.Answer {
-	out, ok, end := pull(s.rest)
+	if s.rest == nil {
+		return s.end
+	}
+	next := answer(pull(s.rest))
+	if next.Status != api.Full {
+		s.rest, s.end = nil, next
+	}
+	return next
+}
+
+// answer tells what came of a pull. No break comes as far as this: its label
+// stands around it.
+func answer(out spot, ok bool, end *ending) api.Answer {
 	switch {
 	case ok:
 		return api.Answer{Status: api.Full, Text: value.Canonical(out.value)}

@@ -1,6 +1,7 @@
 package work
 
 import (
+	"strings"
 	"testing"
 
 	"spigot/api"
@@ -36,6 +37,14 @@ func TestNext(t *testing.T) {
 				t.Errorf("%s, %d: %+v, want %+v", c.filter, i, got, want)
 			}
 		}
+		for range 3 {
+			if got, want := s.Next(), c.want[len(c.want)-1]; got != want {
+				t.Errorf("%s, behind its end: %+v, want %+v", c.filter, got, want)
+			}
+		}
+		if s.rest != nil {
+			t.Errorf("%s: something is kept of a stream that has ended", c.filter)
+		}
 	}
 }
 
@@ -43,6 +52,14 @@ func TestNext(t *testing.T) {
 func TestNothingAheadOfNext(t *testing.T) {
 	for _, f := range []string{"error", "def f: f; f", "1 | error", "[range(0; 999999999999999999)]", "label $l | break $l", "reduce range(0; 999999999999999999) as $x (0; .)", ".[] |= error", "{a: error}"} {
 		start(t, f, 50)
+	}
+}
+
+// TestStreamsThatNobodyAsksTakeNoRoom: what is begun is as small as that.
+func TestStreamsThatNobodyAsksTakeNoRoom(t *testing.T) {
+	tree, _, _ := syntax.Read("def f: " + strings.Repeat("-", 1900) + "f; f")
+	if n := testing.AllocsPerRun(10, func() { Start(tree, value.Null{}, 50) }); n > 20 {
+		t.Errorf("%v pieces of memory", n)
 	}
 }
 
